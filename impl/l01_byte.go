@@ -56,6 +56,8 @@ func Byte(x int) int { return int(octet(x)) }
 
 func Addr(x int) int { return int(place(x)) }
 
+func isByte(x int) bool { return x == Byte(x) }
+
 func Add8(a int, b int, carry bool) (int, bool) {
 	sum, told := octet(a).plus(octet(b), carry)
 	return int(sum), told.has(carryFlag)
