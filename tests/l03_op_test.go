@@ -2,7 +2,10 @@ package tests
 
 import (
 	"math"
+	"os"
+	"os/exec"
 	"slices"
+	"strconv"
 	"strings"
 	"sync"
 	"testing"
@@ -212,4 +215,56 @@ func TestOpsAskedByManyAtATime(t *testing.T) {
 		all.Go(func() { askAll(t, opTable) })
 	}
 	all.Wait()
+}
+
+const askedFirst = "OP_ASKED_FIRST"
+
+// A name is asked ahead of the first reading of the map only by the first call of a process:
+// so the test runs itself anew for each name, which is asked first there, behind all others, and again.
+func TestEachNameAskedFirst(t *testing.T) {
+	if name, asked := os.LookupEnv(askedFirst); asked {
+		tellAskedFirst(name)
+		return
+	}
+	names := []string{"", "fly", "NOP", "nop ", "byte", "\xff"}
+	for _, w := range opTable {
+		names = append(names, w.name)
+	}
+	told := make([]string, len(names))
+	var all sync.WaitGroup
+	for i, name := range names {
+		all.Go(func() { told[i] = runAskedFirst(t, name) })
+	}
+	all.Wait()
+	for i, name := range names {
+		number := strconv.Itoa(numberOf(name))
+		if want := "asked " + number + " " + number + " " + number + ";"; !strings.Contains(told[i], want) {
+			t.Errorf("%q asked first: %q, want %q", name, told[i], want)
+		}
+	}
+}
+
+// tellAskedFirst writes what a name's number is at the first call, at the second, and behind all names.
+func tellAskedFirst(name string) {
+	first, second := impl.OpOf(name), impl.OpOf(name)
+	for _, w := range opTable {
+		impl.OpOf(w.name)
+	}
+	last := impl.OpOf(name)
+	os.Stdout.WriteString("asked " + strconv.Itoa(first) + " " + strconv.Itoa(second) + " " + strconv.Itoa(last) + ";\n")
+}
+
+func runAskedFirst(t *testing.T, name string) string {
+	program, err := os.Executable()
+	if err != nil {
+		t.Error(err)
+		return ""
+	}
+	again := exec.Command(program, "-test.run=^TestEachNameAskedFirst$")
+	again.Env = append(os.Environ(), askedFirst+"="+name)
+	out, err := again.CombinedOutput()
+	if err != nil {
+		t.Errorf("%q asked first: %v", name, err)
+	}
+	return string(out)
 }
