@@ -10,10 +10,13 @@ type place uint16
 // flags is a set of what is told of an octet beside its number.
 type flags uint8
 
+// The bits are those of the processor's byte of flags, which leaves out 8 to 64:
+// so a set is that byte as it stands.
 const (
 	carryFlag flags = 1 << iota
 	zeroFlag
-	signFlag
+	maskFlag
+	signFlag flags = 1 << 7
 )
 
 func (f flags) has(wanted flags) bool { return f&wanted != 0 }
