@@ -1159,10 +1159,11 @@ func splitAnswers() map[string]func(impl.Split) impl.Split {
 	}
 }
 
-// TestSplitAnswersAreNewMemory: no list that was handed in is changed, nor the room behind it, and no answer shares any.
-func TestSplitAnswersAreNewMemory(t *testing.T) {
+// checkNewSplits: no list that was handed in is changed, nor the room behind it, and no answer shares any.
+func checkNewSplits(t *testing.T, answers map[string]func(impl.Split) impl.Split) {
+	t.Helper()
 	for name, start := range someSplits() {
-		for what, answer := range splitAnswers() {
+		for what, answer := range answers {
 			what += ", " + name
 			s, clean := roomySplit(start)
 			got, again, want := answer(s), answer(s), answer(copyOfSplit(start))
@@ -1179,6 +1180,8 @@ func TestSplitAnswersAreNewMemory(t *testing.T) {
 	}
 }
 
+func TestSplitAnswersAreNewMemory(t *testing.T) { checkNewSplits(t, splitAnswers()) }
+
 // sharingSplit is a console whose lists lie in each other's rooms, as far as their numbers let them.
 func sharingSplit() impl.Split {
 	s := doing(splitAt(150), "sta", 8196)
@@ -1189,9 +1192,11 @@ func sharingSplit() impl.Split {
 	return s
 }
 
-func TestSplitListsThatShareOneRoom(t *testing.T) {
+// checkSharingSplits: what shares its room when it is handed in is answered as if it did not, and shares none in the answer.
+func checkSharingSplits(t *testing.T, answers map[string]func(impl.Split) impl.Split) {
+	t.Helper()
 	for _, addr := range []int{8196, 16385, 16406, 7} {
-		for what, answer := range splitAnswers() {
+		for what, answer := range answers {
 			what := fmt.Sprint(what, ", sta ", addr)
 			sharing := func() impl.Split {
 				s := sharingSplit()
@@ -1205,6 +1210,10 @@ func TestSplitListsThatShareOneRoom(t *testing.T) {
 			spoilSplit(t, what, got)
 		}
 	}
+}
+
+func TestSplitListsThatShareOneRoom(t *testing.T) {
+	checkSharingSplits(t, splitAnswers())
 	if _, done := impl.CpuStep(sharingSplit()); !done {
 		t.Error("it waits")
 	}
